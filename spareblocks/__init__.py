@@ -1,0 +1,1 @@
+"""Spareblocks: drives that copy pages to make room, judged for all loads."""

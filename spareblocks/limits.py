@@ -1,0 +1,13 @@
+"""The greatest and least numbers that the package works with."""
+
+LEAST_BLOCKS = 3
+MOST_BLOCKS = 6
+LEAST_PAGES = 2
+MOST_PAGES = 5
+MOST_ROWS = 4
+MOST_PRICE = 9
+MOST_EVENTS = 2000
+MOST_WRITES = 500
+MOST_STANDS = 2000
+MOST_JOINT = 4000
+MOST_PICKED = 1000
