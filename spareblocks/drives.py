@@ -1,9 +1,9 @@
 """Drives: blocks, pages, room for names, and a rule."""
 
+from spareblocks.counting import count_stands
 from spareblocks.errors import BadValue, InvalidBlocks, InvalidNames, InvalidPages, InvalidText, TooMany
 from spareblocks.kinds import is_within
 from spareblocks.limits import LEAST_BLOCKS, LEAST_PAGES, MOST_BLOCKS, MOST_PAGES, MOST_STANDS
-from spareblocks.reaching import find_stands
 from spareblocks.rules import check_rows
 from spareblocks.texts import parts_of, text_of
 
@@ -29,7 +29,7 @@ class Drive:
         self.kept_names = names
         self.kept_rows = rows
         self.kept_text = text_of(blocks, pages, names, rows)
-        if len(find_stands(self, MOST_STANDS)) > MOST_STANDS:
+        if count_stands(blocks, pages, names) > MOST_STANDS:
             raise TooMany(MOST_STANDS)
 
     @classmethod

@@ -1,60 +1,67 @@
-"""The stands of a drive that can be reached.
+"""Stands of one drive, and what single events do to them.
 
-A drive is here anything that has the properties of one: drives.py asks for its
-stands before the drive is done, and so is not imported.
+A place is the index of a closed block, or, for the open one, the number of the closed ones. All blocks stand in one
+row: the closed ones in their order, the open one, the free ones in theirs. Opening and closing a block change nothing
+in this row, and cleaning takes the picked block out and puts it at the end.
 """
 
+from spareblocks.errors import Sticks
+from spareblocks.limits import MOST_STANDS
 from spareblocks.rules import pick
+from spareblocks.webs import explore
 
 START = ((), ())
 NOTHING_WRITTEN = (0, 0)
 
 
 def clean(drive, closed):
-    """The pair (closed, filling) behind all cleanings that are due; None if they never end."""
+    """What cleaning until there is room leads to: (closed, filling, copied, picks); None if it never ends."""
     seen = set()
+    copied = 0
+    picks = []
     while closed not in seen:
         seen.add(closed)
         place = pick(drive.rows, closed)
         living = closed[place]
         rest = closed[:place] + closed[place + 1:]
+        copied += living
+        picks.append(place)
         if living < drive.pages:
-            return rest, (living, living)
+            return rest, (living, living), copied, tuple(picks)
         closed = rest + (living,)
     return None
 
 
 def make_room(drive, stand):
-    """The stand with a block into which a page can go; None if cleaning never ends."""
+    """What is there when a page can be written: (closed, filling, copied, picks); None if cleaning never ends."""
     closed, filling = stand
     if filling:
-        return stand
-    free = drive.blocks - len(closed)
-    if free > 1:
-        return closed, NOTHING_WRITTEN
+        return closed, filling, 0, ()
+    if drive.blocks - len(closed) > 1:
+        return closed, NOTHING_WRITTEN, 0, ()
     return clean(drive, closed)
 
 
 def write_page(drive, stand):
-    """The stand behind a write of a name that does not live; None if it sticks."""
+    """What a write of a name that does not live leads to: (stand, copied, picks); None if it sticks."""
     room = make_room(drive, stand)
     if room is None:
         return None
-    closed, (written, living) = room
+    closed, (written, living), copied, picks = room
     if written + 1 == drive.pages:
-        return closed + (living + 1,), ()
-    return closed, (written + 1, living + 1)
+        return (closed + (living + 1,), ()), copied, picks
+    return (closed, (written + 1, living + 1)), copied, picks
 
 
 def let_die(stand):
-    """The stands in which one page has died, one for each place where a page lives."""
+    """For each place where a page lives the pair of it and of the stand in which one of its pages has died."""
     closed, filling = stand
     stands = []
     for place, living in enumerate(closed):
         if living > 0:
-            stands.append((closed[:place] + (living - 1,) + closed[place + 1:], filling))
+            stands.append((place, (closed[:place] + (living - 1,) + closed[place + 1:], filling)))
     if filling and filling[1] > 0:
-        stands.append((closed, (filling[0], filling[1] - 1)))
+        stands.append((len(closed), (closed, (filling[0], filling[1] - 1))))
     return stands
 
 
@@ -64,25 +71,50 @@ def count_living(stand):
     return sum(closed) + (filling[1] if filling else 0)
 
 
-def find_next(drive, stand):
-    """The stands to which single events lead, with trims; a write that sticks leads to none."""
-    trimmed = let_die(stand)
-    # The old page dies before the new one is written, so a write of a living name begins as its trim does.
-    grounds = list(trimmed)
-    if count_living(stand) < drive.names:
-        grounds.append(stand)
-    written = [write_page(drive, ground) for ground in grounds]
-    return trimmed + [after for after in written if after is not None]
+def last_place(stand):
+    """The place into which the last write went."""
+    closed, filling = stand
+    return len(closed) if filling else len(closed) - 1
 
 
-def find_stands(drive, limit):
-    """The stands that can be reached, with trims; the search ends once there are more than limit."""
-    found = {START: True}
-    waiting = [START]
-    while waiting and len(found) <= limit:
-        stand = waiting.pop()
-        for after in find_next(drive, stand):
-            if after not in found:
-                found[after] = True
-                waiting.append(after)
-    return list(found)
+def carry(drive, picks, place):
+    """The place to which cleaning with these picks brings the pages of a place."""
+    for picked in picks:
+        if place == picked:
+            # They are copied into the block that was free, which stands behind the closed ones that are left.
+            place = drive.blocks - 2
+        elif place > picked:
+            place -= 1
+    return place
+
+
+class Single:
+    """The stands of one drive, as webs.py asks for them."""
+
+    def __init__(self, drive):
+        self.drive = drive
+
+    def begin(self):
+        """The stand behind no event."""
+        return START
+
+    def find_grounds(self, stand):
+        """The pairs (place, stand) for all places where one page can die."""
+        return let_die(stand)
+
+    def has_room(self, stand):
+        """Whether one name more can live."""
+        return count_living(stand) < self.drive.names
+
+    def find_growth(self, stand):
+        """What a write of a name that does not live leads to: (stand, copied, erased, picks)."""
+        told = write_page(self.drive, stand)
+        if told is None:
+            raise Sticks()
+        after, copied, picks = told
+        return after, copied, len(picks), picks
+
+
+def find_web(drive, trims):
+    """The web of the stands of a drive that can be reached; raises Sticks if a write can stick."""
+    return explore(Single(drive), trims, MOST_STANDS)

@@ -51,8 +51,11 @@ class Played:
         self.free = list(range(blocks))
         self.closed = []
         self.current = None
+        self.copied = 0
+        self.erased = []
 
     def copy(self):
+        """A drive that goes on from here, with no copies and erasures yet."""
         twin = Played(*self.shape)
         twin.content = [list(pages) for pages in self.content]
         twin.free, twin.closed, twin.current = list(self.free), list(self.closed), self.current
@@ -102,9 +105,11 @@ class Played:
         for page in list(self.content[picked]):
             if page is not None:
                 self.put(page)
+                self.copied += 1
         self.closed.remove(picked)
         self.content[picked] = []
         self.free.append(picked)
+        self.erased.append(picked)
 
     def picked(self):
         for limit, word in self.shape[3]:
@@ -119,35 +124,40 @@ class Played:
             wished = min(counts) if word == "least" else max(counts)
             return some[counts.index(wished)]
 
-    def next_ones(self):
-        """The drives behind each single event that is let and does not stick."""
-        names = self.living_names()
-        fresh = [f"n{number}" for number in range(len(names) + 1) if f"n{number}" not in names][0]
-        behind = []
-        for name in names:
-            twin = self.copy()
-            twin.trim(name)
-            behind.append(twin)
-        for name in names + ([fresh] if len(names) < self.shape[2] else []):
-            twin = self.copy()
-            if twin.write(name):
-                behind.append(twin)
-        return behind
+    def row(self):
+        """The numbers of all blocks: the closed ones in their order, the open one, the free ones in their row."""
+        return self.closed + ([] if self.current is None else [self.current]) + self.free
+
+    def place(self, name):
+        """Where the block in which a name lives stands in this row."""
+        return self.row().index([number for number, pages in enumerate(self.content) if name in pages][0])
+
+    def do(self, word, name):
+        """Does an event; whether it ends."""
+        if word == "write":
+            return self.write(name)
+        self.trim(name)
+        return True
 
 
-def played_moves(blocks, pages, names, rows):
-    """For each stand that can be reached, with trims, the stands behind single events; names do not matter ([9])."""
-    start = Played(blocks, pages, names, rows)
-    moves = {}
-    waiting = [start]
-    while waiting:
-        drive = waiting.pop()
-        if drive.stand() in moves:
-            continue
-        behind = drive.next_ones()
-        moves[drive.stand()] = {twin.stand() for twin in behind}
-        waiting.extend(behind)
-    return moves
+def fresh_name(living):
+    return [f"n{number}" for number in range(len(living) + 1) if f"n{number}" not in living][0]
+
+
+def events_at(living, room, trims):
+    """All events that are let if these names live."""
+    events = [("write", name) for name in living]
+    if len(living) < room:
+        events.append(("write", fresh_name(living)))
+    return events + [("trim", name) for name in living if trims]
+
+
+def all_sizes():
+    return [(blocks, pages) for blocks in range(3, 7) for pages in range(2, 6)]
+
+
+def all_names(blocks, pages):
+    return range(1, pages * (blocks - 1) + 1)
 
 
 def stands_counted(blocks, pages, names):
@@ -170,14 +180,6 @@ def stands_counted(blocks, pages, names):
                         behind[total + living] = behind.get(total + living, 0) + before.get(total, 0)
         before = behind
     return many
-
-
-def all_sizes():
-    return [(blocks, pages) for blocks in range(3, 7) for pages in range(2, 6)]
-
-
-def all_names(blocks, pages):
-    return range(1, pages * (blocks - 1) + 1)
 
 
 def text_told(blocks, pages, names, rows):
