@@ -24,7 +24,7 @@ class Web:
         self.reached = []
 
 
-def number_of(web, stand):
+def number_stand(web, stand):
     """The number of a stand, a new one if it has none."""
     number = web.numbers.get(stand)
     if number is None:
@@ -48,7 +48,7 @@ def grow(web, source, number):
     """Notes what a write of a name that does not live leads to from here."""
     if web.growths[number] is None:
         after, copied, erased, picks = source.find_growth(web.stands[number])
-        behind = number_of(web, after)
+        behind = number_stand(web, after)
         web.growths[number] = (behind, copied, erased, picks)
         reach(web, behind)
 
@@ -57,7 +57,7 @@ def visit(web, source, number):
     """Notes all that single events lead to from here."""
     stand = web.stands[number]
     for place, ground in source.find_grounds(stand):
-        low = number_of(web, ground)
+        low = number_stand(web, ground)
         web.grounds[number].append((place, low))
         if web.trims:
             reach(web, low)
@@ -70,7 +70,7 @@ def visit(web, source, number):
 def explore(source, trims, limit):
     """The web of a source of stands; the search ends once more than limit stands are reached."""
     web = Web(trims)
-    reach(web, number_of(web, source.begin()))
+    reach(web, number_stand(web, source.begin()))
     done = 0
     while done < len(web.reached) and len(web.reached) <= limit:
         visit(web, source, web.reached[done])

@@ -23,6 +23,12 @@ WORDS = re.compile(r"\b(type|typing|typing_extensions|enum|Enum|IntEnum|StrEnum|
                    r"ABCMeta|namedtuple|NamedTuple|TypedDict|TYPE_CHECKING|abstractmethod)\b|dataclass|overload|"
                    r"contextmanager")
 DOUBLE = re.compile(r"__(init|eq|repr|str|len|enter|exit|call|iter|lt|le|gt|ge|ne|bool|contains|getitem|setitem)__")
+METHODS = set("""append clear copy count endswith extend find get index insert isalnum isalpha isdigit islower isspace
+    isupper items join keys ljust lower lstrip partition pop remove replace reverse rfind rjust rpartition rsplit rstrip
+    setdefault split splitlines startswith strip update upper values zfill bit_length add discard removeprefix
+    removesuffix isascii""".split())
+AT_ONCE = ("zip", "enumerate", "reversed", "range", "items", "keys", "values")
+TAKERS = ("list", "tuple", "dict", "sorted", "sum", "any", "all", "enumerate", "zip", "min", "max")
 STATEMENTS = (ast.Global, ast.AsyncFunctionDef, ast.AsyncFor, ast.AsyncWith, ast.Await, ast.Import)
 
 
@@ -45,6 +51,25 @@ def bound_names(tree):
             yield node.asname or node.name
         elif isinstance(node, ast.ExceptHandler) and node.name:
             yield node.name
+
+
+def called_name(node):
+    """The name by which a call calls, of a function or of a method."""
+    if isinstance(node, ast.Call):
+        return node.func.id if isinstance(node.func, ast.Name) else getattr(node.func, "attr", None)
+    return None
+
+
+def children_of(tree):
+    """Pairs of each node and the node around it."""
+    for node in ast.walk(tree):
+        for child in ast.iter_child_nodes(node):
+            yield node, child
+
+
+def own_functions():
+    """The functions at module level, by name; no two files have one of the same name that takes something else."""
+    return {node.name: node for path, text, tree in parsed() for node in tree.body if isinstance(node, ast.FunctionDef)}
 
 
 class LanguageTest(unittest.TestCase):
@@ -147,6 +172,82 @@ class LanguageTest(unittest.TestCase):
             for node in ast.walk(tree):
                 if isinstance(node, ast.Compare) and isinstance(node.ops[0], (ast.Is, ast.IsNot)):
                     self.assertIn(ast.unparse(node.comparators[0]), ("None", "True", "False"), path)
+
+    def test_no_generators_and_no_sort(self):
+        # A class has __eq__, so that any, all, min, max, sum and sorted take lists, and xs.sort() is not allowed.
+        for path, text, tree in parsed():
+            for node in ast.walk(tree):
+                self.assertNotIsInstance(node, (ast.GeneratorExp, ast.Yield, ast.YieldFrom, ast.NamedExpr), path)
+                self.assertNotEqual("sort", called_name(node), path)
+
+    def test_iterated_at_once(self):
+        for path, text, tree in parsed():
+            for node, child in children_of(tree):
+                if called_name(child) not in AT_ONCE:
+                    continue
+                over = isinstance(node, (ast.For, ast.comprehension)) and node.iter is child
+                taken = called_name(node) in TAKERS and node.args[0] is child
+                self.assertTrue(over or taken, (path, child.lineno))
+
+    def test_sets(self):
+        for path, text, tree in parsed():
+            for function in [node for node in ast.walk(tree) if isinstance(node, ast.FunctionDef)]:
+                stored = [node.targets[0].id for node in ast.walk(function) if isinstance(node, ast.Assign)
+                          and called_name(node.value) == "set"]
+                self.assertEqual(len(set(stored)), len(stored), path)
+                for node, child in children_of(function):
+                    self.assertFalse(isinstance(child, (ast.Set, ast.SetComp)), path)
+                    if isinstance(child, ast.Name) and isinstance(child.ctx, ast.Load) and child.id in stored:
+                        tested = isinstance(node, ast.Compare) and isinstance(node.ops[0], (ast.In, ast.NotIn))
+                        changed = isinstance(node, ast.Attribute) and node.attr in ("add", "discard")
+                        self.assertTrue(tested or changed or called_name(node) in ("len", "sorted"), (path, child.lineno))
+
+    def test_raise_creates_its_error(self):
+        for path, text, tree in parsed():
+            for node in ast.walk(tree):
+                if isinstance(node, ast.Raise) and node.exc is not None:
+                    self.assertIsInstance(node.exc, ast.Call, path)
+                    self.assertRegex(node.exc.func.id, "^[A-Z]", path)
+
+    def test_calls_of_own_functions_pass_what_these_take(self):
+        functions = own_functions()
+        for path, text, tree in parsed():
+            for node in ast.walk(tree):
+                if isinstance(node, ast.Call) and isinstance(node.func, ast.Name) and node.func.id in functions:
+                    taken = functions[node.func.id].args
+                    self.assertEqual((len(taken.args), []), (len(node.args), node.keywords), (path, node.lineno))
+
+    def test_attributes_and_methods_are_own_or_listed(self):
+        own = set()
+        for path, text, tree in parsed():
+            for node in ast.walk(tree):
+                if isinstance(node, ast.ClassDef):
+                    own |= {row.name for row in node.body if isinstance(row, ast.FunctionDef)}
+                elif isinstance(node, ast.Attribute) and isinstance(node.ctx, ast.Store):
+                    own.add(node.attr)
+        for path, text, tree in parsed():
+            for node in ast.walk(tree):
+                if isinstance(node, ast.Attribute):
+                    self.assertIn(node.attr, own | METHODS, (path, node.lineno))
+
+    def test_loops_do_not_change_what_they_iterate_over(self):
+        changing = ("append", "extend", "insert", "pop", "remove", "clear", "update", "setdefault", "reverse")
+        for path, text, tree in parsed():
+            for loop in [node for node in ast.walk(tree) if isinstance(node, ast.For)]:
+                over = {ast.unparse(node) for node in ast.walk(loop.iter) if isinstance(node, (ast.Name, ast.Attribute))}
+                for node in [node for row in loop.body for node in ast.walk(row)]:
+                    if isinstance(node, ast.Subscript) and isinstance(node.ctx, (ast.Store, ast.Del)):
+                        self.assertNotIn(ast.unparse(node.value), over, (path, node.lineno))
+                    elif isinstance(node, ast.Call) and isinstance(node.func, ast.Attribute) and node.func.attr in changing:
+                        self.assertNotIn(ast.unparse(node.func.value), over, (path, node.lineno))
+
+    def test_the_interface_is_defined_where_it_is_listed(self):
+        listed = {"drives": ["Drive"], "rates": ["rate", "debt", "longest_write", "most_price", "costly_load"],
+                  "drifts": ["drift", "drift_load"], "comparing": ["excess", "never_more", "worse_load"]}
+        for stem, names in listed.items():
+            tree = ast.parse((PACKAGE / (stem + ".py")).read_text(encoding="utf-8"))
+            defined = {node.name for node in tree.body if isinstance(node, (ast.FunctionDef, ast.ClassDef))}
+            self.assertLessEqual(set(names), defined)
 
 
 if __name__ == "__main__":
