@@ -72,6 +72,18 @@ def own_functions():
     return {node.name: node for path, text, tree in parsed() for node in tree.body if isinstance(node, ast.FunctionDef)}
 
 
+def own_methods_and_attributes():
+    """The names of all methods, and of all attributes that are assigned."""
+    methods, attributes = set(), set()
+    for path, text, tree in parsed():
+        for node in ast.walk(tree):
+            if isinstance(node, ast.ClassDef):
+                methods |= {row.name for row in node.body if isinstance(row, ast.FunctionDef)}
+            elif isinstance(node, ast.Attribute) and isinstance(node.ctx, ast.Store):
+                attributes.add(node.attr)
+    return methods, attributes
+
+
 class LanguageTest(unittest.TestCase):
     def test_files(self):
         self.assertIn(PACKAGE / "__init__.py", FILES)
@@ -158,13 +170,7 @@ class LanguageTest(unittest.TestCase):
             self.assertEqual(len(set(bound)), len(bound), path)
 
     def test_no_name_is_both_a_method_and_an_attribute(self):
-        methods, attributes = set(), set()
-        for path, text, tree in parsed():
-            for node in ast.walk(tree):
-                if isinstance(node, ast.ClassDef):
-                    methods |= {row.name for row in node.body if isinstance(row, ast.FunctionDef)}
-                elif isinstance(node, ast.Attribute) and isinstance(node.ctx, ast.Store):
-                    attributes.add(node.attr)
+        methods, attributes = own_methods_and_attributes()
         self.assertEqual(set(), methods & attributes)
 
     def test_is_only_with_none_true_and_false(self):
@@ -218,17 +224,11 @@ class LanguageTest(unittest.TestCase):
                     self.assertEqual((len(taken.args), []), (len(node.args), node.keywords), (path, node.lineno))
 
     def test_attributes_and_methods_are_own_or_listed(self):
-        own = set()
-        for path, text, tree in parsed():
-            for node in ast.walk(tree):
-                if isinstance(node, ast.ClassDef):
-                    own |= {row.name for row in node.body if isinstance(row, ast.FunctionDef)}
-                elif isinstance(node, ast.Attribute) and isinstance(node.ctx, ast.Store):
-                    own.add(node.attr)
+        methods, attributes = own_methods_and_attributes()
         for path, text, tree in parsed():
             for node in ast.walk(tree):
                 if isinstance(node, ast.Attribute):
-                    self.assertIn(node.attr, own | METHODS, (path, node.lineno))
+                    self.assertIn(node.attr, methods | attributes | METHODS, (path, node.lineno))
 
     def test_loops_do_not_change_what_they_iterate_over(self):
         changing = ("append", "extend", "insert", "pop", "remove", "clear", "update", "setdefault", "reverse")
