@@ -1,11 +1,12 @@
 """Checks of parameters that many functions have; each raises the error that belongs to it."""
 
 from spareblocks.drives import Drive
-from spareblocks.errors import InvalidFlag, InvalidNumber, InvalidPrice, NotADrive, OtherNames
+from spareblocks.errors import InvalidDrift, InvalidFlag, InvalidNumber, InvalidPrice, NotADrive, OtherNames
 from spareblocks.kinds import is_within
 from spareblocks.limits import MOST_PRICE, MOST_WRITES
 
 MOST_MORE = 20
+MOST_DRIFT = 3
 
 
 def check_drive(drive):
@@ -36,14 +37,25 @@ def check_more(more):
 
 def check_terms(copies, erasures, trims):
     """Raises an error if these are no prices and no flag."""
+    check_prices(copies, erasures)
+    check_trims(trims)
+
+
+def check_prices(copies, erasures):
+    """Raises InvalidPrice if these are no prices, or both are 0."""
     if not is_within(copies, 0, MOST_PRICE):
         raise InvalidPrice(copies)
     if not is_within(erasures, 0, MOST_PRICE) or copies == erasures == 0:
         raise InvalidPrice(erasures)
-    check_trims(trims)
 
 
 def check_trims(trims):
     """Raises InvalidFlag if it is neither True nor False."""
     if trims is not True and trims is not False:
         raise InvalidFlag(trims)
+
+
+def check_drift(drift):
+    """Raises InvalidDrift if it is no drift that may be wished for."""
+    if drift is not None and not is_within(drift, 1, MOST_DRIFT):
+        raise InvalidDrift(drift)

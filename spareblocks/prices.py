@@ -35,12 +35,16 @@ def steepest(links, rings):
 
 
 def find_rate(web, copies, erasures):
+    """The triple (top, bottom, sums) of the links of a web."""
+    return find_greatest(price_links(web, copies, erasures), web.reached[::-1])
+
+
+def find_greatest(links, order):
     """The triple (top, bottom, sums): the rate is top / bottom, sums are bottom times the greatest debts.
 
-    Each ring that is found to be above 0 has a greater quotient than the one before, and there are finitely many.
+    Each ring that is found to be above 0 has a greater quotient than the one before, and there are finitely many. The
+    order is that of longest.py.
     """
-    links = price_links(web, copies, erasures)
-    order = web.reached[::-1]
     top, bottom = 0, 1
     sums = [0] * len(links)
     rings = settle(weigh_links(links, top, bottom), order, sums)

@@ -5,6 +5,7 @@ row: the closed ones in their order, the open one, the free ones in theirs. Open
 in this row, and cleaning takes the picked block out and puts it at the end.
 """
 
+from spareblocks.bands import find_stuck
 from spareblocks.errors import Sticks
 from spareblocks.limits import MOST_STANDS
 from spareblocks.rules import pick
@@ -108,13 +109,34 @@ class Single:
 
     def find_growth(self, stand):
         """What a write of a name that does not live leads to: (stand, copied, erased, picks)."""
-        told = write_page(self.drive, stand)
-        if told is None:
-            raise Sticks()
-        after, copied, picks = told
+        after, copied, picks = write_page(self.drive, stand)
         return after, copied, len(picks), picks
 
 
 def find_web(drive, trims):
     """The web of the stands of a drive that can be reached; raises Sticks if a write can stick."""
+    if find_stuck(drive) is not None:
+        raise Sticks()
     return explore(Single(drive), trims, MOST_STANDS)
+
+
+def find_stands(drive, trims):
+    """All stands of a drive that can be reached; writes may stick, and lead nowhere then."""
+    found = {START: True}
+    grown = {}
+    waiting = [START]
+    while waiting:
+        stand = waiting.pop()
+        grounds = [ground for place, ground in let_die(stand)]
+        nexts = list(grounds) if trims else []
+        if count_living(stand) < drive.names:
+            grounds.append(stand)
+        for ground in grounds:
+            if ground not in grown:
+                grown[ground] = write_page(drive, ground)
+                nexts.extend([grown[ground][0]] if grown[ground] is not None else [])
+        for after in nexts:
+            if after not in found:
+                found[after] = True
+                waiting.append(after)
+    return list(found)

@@ -5,8 +5,7 @@ the height is how often the first one has been erased more often than the second
 stand somewhere, and cleaning only changes their places; so each node of a stand that can be reached can be come to.
 """
 
-from spareblocks.longest import settle
-from spareblocks.webs import TRIM, WRITE, find_needed_writes, find_trims, find_writes
+from spareblocks.webs import TRIM, WRITE, find_trims, find_writes
 
 
 def shift(blocks, picked, place):
@@ -67,31 +66,3 @@ def find_turns(wear, picks):
     if picks not in wear.turns:
         wear.turns[picks] = [turn_pair(wear.count, picks, pair) for pair in range(wear.size)]
     return wear.turns[picks]
-
-
-def link_stand(wear, number, net, peaks):
-    """Puts the links from all nodes of a stand into the net, and the peaks on single links."""
-    base = number * wear.size
-    for place, after in find_trims(wear.web, number):
-        for pair in wear.pairs:
-            net[base + pair].append((after * wear.size + pair, 0))
-    for place, after, copied, erased, picks in find_needed_writes(wear.web, number):
-        turns = find_turns(wear, picks)
-        for pair in wear.pairs:
-            behind, gain, peak = turns[pair]
-            net[base + pair].append((after * wear.size + behind, gain))
-            peaks[base + pair] = max(peak, peaks[base + pair])
-
-
-def find_greatest(wear):
-    """The greatest height; None if there is none."""
-    many = len(wear.web.stands) * wear.size
-    net = [[] for node in range(many)]
-    heights = [0] * many
-    order = []
-    for number in wear.web.reached[::-1]:
-        link_stand(wear, number, net, heights)
-        order.extend([number * wear.size + pair for pair in wear.pairs])
-    if settle(net, order, heights):
-        return None
-    return max([heights[node] for node in wear.find_starts()])

@@ -4,7 +4,7 @@ from spareblocks.climbing import climb
 from spareblocks.drifts import drift, drift_load
 from spareblocks.drives import Drive
 from spareblocks.errors import Sticks
-from spareblocks.wearing import Wear, find_greatest
+from spareblocks.wearing import Wear
 from tests.samples import small_parts, some_parts
 from tests.walks import Sticking, fewest_events, first_node, greatest_heights, play, walk_all
 
@@ -69,31 +69,30 @@ class Made:
 
 
 class MadeTest(unittest.TestCase):
-    """No drift but 1 and None was found for any drive, so that others are tested on webs that are made for it."""
+    """No drive has another drift than 1 or None, so that loads to others are tested on webs that are made for it."""
 
-    def check(self, expected, shortest, *growths):
-        self.assertEqual(expected, find_greatest(Wear(Made(*growths), 3)))
+    def check(self, shortest, *growths):
         for goal, many in enumerate(shortest, start=1):
             walk = climb(Wear(Made(*growths), 3), goal)
             self.assertEqual(None if many is None else [("write", None)] * many, walk)
 
     def test_two_blocks_take_turns_once(self):
         # Of a, b, c are erased b, c, b, and from then on each in its turn.
-        self.check(2, [1, 1, None], (1, (1, 1, 1)), (1, (0, 0, 0)))
-        self.check(3, [1, 1, 2, None], (1, (1, 1, 1)), (2, (1, 1)), (2, (0, 0, 0)))
+        self.check([1, 1, None], (1, (1, 1, 1)), (1, (0, 0, 0)))
+        self.check([1, 1, 2, None], (1, (1, 1, 1)), (2, (1, 1)), (2, (0, 0, 0)))
 
     def test_a_difference_within_a_write(self):
         # The block that was left out is the last one to be erased in the same write.
-        self.check(2, [1, 1, None], (1, (1, 1, 1, 0)), (1, (0, 0, 0)))
-        self.check(1, [1, None], (1, (0, 0, 0)), (1, (0, 0, 0)))
-        self.check(1, [2, None], (1, ()), (0, (0, 0, 0)))
+        self.check([1, 1, None], (1, (1, 1, 1, 0)), (1, (0, 0, 0)))
+        self.check([1, None], (1, (0, 0, 0)), (1, (0, 0, 0)))
+        self.check([2, None], (1, ()), (0, (0, 0, 0)))
 
     def test_a_difference_that_comes_again_and_again(self):
-        self.check(None, [1, 1, 2, 2, 3, 3], (0, (1, 1, 1, 1)))
-        self.check(None, [2, 2, 4, 4], (1, ()), (0, (1, 1, 1, 1)))
+        self.check([1, 1, 2, 2, 3, 3], (0, (1, 1, 1, 1)))
+        self.check([2, 2, 4, 4], (1, ()), (0, (1, 1, 1, 1)))
 
     def test_no_erasure(self):
-        self.check(0, [None], (1, ()), (0, ()))
+        self.check([None], (1, ()), (0, ()))
 
 
 class DriftsTest(unittest.TestCase):

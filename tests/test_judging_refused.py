@@ -1,13 +1,17 @@
-"""Wrong arguments of the functions of rates.py, drifts.py and comparing.py."""
+"""Wrong arguments of the functions that judge drives, of sticking.py and of stands."""
 
 import itertools
 import unittest
 
+from spareblocks.best import best_pause, best_picks, best_rate, is_best
 from spareblocks.comparing import excess, never_more, worse_load
 from spareblocks.drifts import drift, drift_load
 from spareblocks.drives import Drive
-from spareblocks.errors import InvalidFlag, InvalidNumber, InvalidPrice, NotADrive, OtherNames, Sticks, TooMany
+from spareblocks.errors import (InvalidDrift, InvalidFlag, InvalidNumber, InvalidPrice, NotADrive, OtherNames, Sticks,
+                                TooMany)
+from spareblocks.playing import stands
 from spareblocks.rates import costly_load, debt, longest_write, most_price, rate
+from spareblocks.sticking import stick_load, sticks
 from tests.helper import integers_of_many_sizes, values_of_many_kinds
 
 TERMS = ("copies", "erasures", "trims")
@@ -24,14 +28,26 @@ PARAMETERS = {
     excess: (("one", "other"), TERMS),
     never_more: (("one", "other"), TERMS),
     worse_load: (("one", "other", "more"), TERMS),
+    stands: (("drive",), ("trims",)),
+    sticks: (("drive",), ("trims",)),
+    stick_load: (("drive",), ("trims",)),
+    best_rate: (("drive",), TERMS + ("drift",)),
+    best_pause: (("drive",), TERMS + ("drift",)),
+    best_picks: (("drive",), TERMS + ("drift",)),
+    is_best: (("drive",), TERMS + ("drift",)),
 }
+# These have an answer also for drives of which a write sticks.
+UNSTUCK = (stands, sticks, stick_load, best_rate, best_pause, best_picks, is_best)
+BEST = (best_rate, best_pause, best_picks, is_best)
 ERRORS = {"drive": NotADrive, "one": NotADrive, "other": NotADrive, "number": InvalidNumber, "more": InvalidNumber,
-          "copies": InvalidPrice, "erasures": InvalidPrice, "trims": InvalidFlag}
+          "copies": InvalidPrice, "erasures": InvalidPrice, "trims": InvalidFlag, "drift": InvalidDrift}
 RIGHT = {"drive": Drive.simple(3, 2, 3), "one": Drive.simple(3, 2, 3), "other": Drive.simple(3, 3, 3), "number": 3,
-         "more": 1, "copies": 1, "erasures": 2, "trims": True}
+         "more": 1, "copies": 1, "erasures": 2, "trims": True, "drift": None}
 # Numbers just within their bounds, and just beyond them.
-WITHIN = {"number": (0, 500), "more": (0, 20), "copies": (0, 9), "erasures": (0, 9), "trims": (True, False)}
-BEYOND = {"number": (-1, 501), "more": (-1, 21), "copies": (-1, 10), "erasures": (-1, 10), "trims": (0, 1, 2, -1)}
+WITHIN = {"number": (0, 500), "more": (0, 20), "copies": (0, 9), "erasures": (0, 9), "trims": (True, False),
+          "drift": (None, 1, 2, 3)}
+BEYOND = {"number": (-1, 501), "more": (-1, 21), "copies": (-1, 10), "erasures": (-1, 10), "trims": (0, 1, 2, -1),
+          "drift": (0, 4, -1)}
 
 # A write of each of these can stick, with trims and without.
 STICKING = (Drive.simple(3, 2, 4, "most"), Drive(4, 3, 8, ((1, "oldest"), (3, "most"))))
@@ -49,6 +65,8 @@ def wrong_values(name):
     if name == "trims":
         values = [value for value in values_of_many_kinds() if value is not True and value is not False]
         return values + ["True", "trims"] + list(BEYOND["trims"])
+    if name == "drift":
+        return [value for value in values_of_many_kinds() if value is not None] + list(BEYOND["drift"]) + ["1", (1,)]
     return values_of_many_kinds() + list(BEYOND[name]) + [10 ** 39, -(10 ** 39), "1", (1,), RIGHT["one"]]
 
 
@@ -104,7 +122,7 @@ class RefusedTest(unittest.TestCase):
 
     def test_several_wrong_ones_the_first_is_told(self):
         wrong = {"drive": None, "one": "one", "other": (), "number": 501, "more": 21, "copies": 10, "erasures": -1,
-                 "trims": 1}
+                 "trims": 1, "drift": 4}
         for function in PARAMETERS:
             names = self.names(function)
             for many in range(2, len(names) + 1):
@@ -125,7 +143,7 @@ class RefusedTest(unittest.TestCase):
     def test_sticks(self):
         for drive in STICKING:
             fine = Drive.simple(5, 3, drive.names, "oldest")
-            for function in PARAMETERS:
+            for function in [function for function in PARAMETERS if function not in UNSTUCK]:
                 for trims in (True, False):
                     pairs = [{"drive": drive, "one": drive, "other": fine}, {"drive": drive, "one": fine, "other": drive},
                              {"drive": drive, "one": drive, "other": drive}]
@@ -151,6 +169,14 @@ class RefusedTest(unittest.TestCase):
                 self.assertIs(TooMany, type(caught.exception))
             for one, two in ((sticking, other), (other, sticking)):
                 self.refused_without_given(function, {"one": one, "other": two}, Sticks)
+
+    def test_too_many_worn_stands_come_last(self):
+        changed = {"drive": Drive.simple(4, 3, 9, "most"), "drift": 3}
+        for function in BEST:
+            self.refused_without_given(function, changed, TooMany)
+            for name in self.names(function)[1:]:
+                for value in BEYOND[name]:
+                    self.refused(function, {**changed, name: value}, ERRORS[name], value)
 
     def test_too_many_comes_last(self):
         changed = {"one": Drive.simple(4, 3, 8), "other": Drive.simple(4, 3, 8, "oldest")}

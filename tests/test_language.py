@@ -68,7 +68,7 @@ def children_of(tree):
 
 
 def own_functions():
-    """The functions at module level, by name; no two files have one of the same name that takes something else."""
+    """The functions at module level, by name."""
     return {node.name: node for path, text, tree in parsed() for node in tree.body if isinstance(node, ast.FunctionDef)}
 
 
@@ -179,11 +179,13 @@ class LanguageTest(unittest.TestCase):
                 if isinstance(node, ast.Compare) and isinstance(node.ops[0], (ast.Is, ast.IsNot)):
                     self.assertIn(ast.unparse(node.comparators[0]), ("None", "True", "False"), path)
 
-    def test_no_generators_and_no_sort(self):
+    def test_no_generator_but_the_one_of_the_interface_and_no_sort(self):
         # A class has __eq__, so that any, all, min, max, sum and sorted take lists, and xs.sort() is not allowed.
         for path, text, tree in parsed():
             for node in ast.walk(tree):
-                self.assertNotIsInstance(node, (ast.GeneratorExp, ast.Yield, ast.YieldFrom, ast.NamedExpr), path)
+                self.assertNotIsInstance(node, (ast.GeneratorExp, ast.Yield, ast.NamedExpr), path)
+                self.assertFalse(isinstance(node, ast.YieldFrom) and path.stem != "playing", path)
+                self.assertFalse(isinstance(node, ast.Call) and called_name(node) == "steps", path)
                 self.assertNotEqual("sort", called_name(node), path)
 
     def test_iterated_at_once(self):
@@ -221,7 +223,14 @@ class LanguageTest(unittest.TestCase):
             for node in ast.walk(tree):
                 if isinstance(node, ast.Call) and isinstance(node.func, ast.Name) and node.func.id in functions:
                     taken = functions[node.func.id].args
-                    self.assertEqual((len(taken.args), []), (len(node.args), node.keywords), (path, node.lineno))
+                    least = len(taken.args) - len(taken.defaults)
+                    self.assertIn(len(node.args), range(least, len(taken.args) + 1), (path, node.lineno))
+                    named = [keyword.arg for keyword in node.keywords]
+                    self.assertLessEqual(set(named), {row.arg for row in taken.kwonlyargs}, (path, node.lineno))
+
+    def test_no_two_functions_have_one_name(self):
+        names = [node.name for path, text, tree in parsed() for node in tree.body if isinstance(node, ast.FunctionDef)]
+        self.assertEqual(sorted(set(names)), sorted(names))
 
     def test_attributes_and_methods_are_own_or_listed(self):
         methods, attributes = own_methods_and_attributes()
@@ -243,7 +252,9 @@ class LanguageTest(unittest.TestCase):
 
     def test_the_interface_is_defined_where_it_is_listed(self):
         listed = {"drives": ["Drive"], "rates": ["rate", "debt", "longest_write", "most_price", "costly_load"],
-                  "drifts": ["drift", "drift_load"], "comparing": ["excess", "never_more", "worse_load"]}
+                  "drifts": ["drift", "drift_load"], "comparing": ["excess", "never_more", "worse_load"],
+                  "playing": ["steps", "blocks_of", "erased", "price", "stand", "stands"],
+                  "sticking": ["sticks", "stick_load"], "best": ["best_rate", "best_pause", "best_picks", "is_best"]}
         for stem, names in listed.items():
             tree = ast.parse((PACKAGE / (stem + ".py")).read_text(encoding="utf-8"))
             defined = {node.name for node in tree.body if isinstance(node, (ast.FunctionDef, ast.ClassDef))}
