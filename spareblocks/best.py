@@ -1,27 +1,20 @@
 """The best that can be had by picking: rates and pauses, for a wished drift, and tables of picks."""
 
 from spareblocks.bands import find_stuck, is_first_always
-from spareblocks.bests import find_best, list_costs
-from spareblocks.checks import check_drift, check_drive, check_terms
-from spareblocks.games import find_game, tell_due
+from spareblocks.bests import find_best
+from spareblocks.checks import check_wish
+from spareblocks.games import find_game, list_costs, tell_due
 from spareblocks.pauses import find_pause
 from spareblocks.prices import find_rate
 from spareblocks.ratios import lowest
 from spareblocks.reaching import find_web
 
 
-def check_wish(drive, copies, erasures, trims, drift):
-    """Raises an error if these are no arguments of the functions below."""
-    check_drive(drive)
-    check_terms(copies, erasures, trims)
-    check_drift(drift)
-
-
 def best_rate(drive, *, copies=1, erasures=0, trims=True, drift=None):
     """The least rate that any way of picking within the drift can hold."""
     check_wish(drive, copies, erasures, trims, drift)
     best = find_best(find_game(drive, trims, drift), list_costs(drive, copies, erasures))
-    return lowest(best.top, best.bottom)
+    return lowest(best.rate.top, best.rate.bottom)
 
 
 def best_pause(drive, *, copies=1, erasures=0, trims=True, drift=None):
@@ -44,6 +37,6 @@ def is_best(drive, *, copies=1, erasures=0, trims=True, drift=None):
     game = find_game(drive, trims, drift)
     if find_stuck(drive) is not None or drift is not None and not is_first_always(drive):
         return False
-    top, bottom, sums = find_rate(find_web(drive, trims), copies, erasures)
+    told = find_rate(find_web(drive, trims), copies, erasures)
     best = find_best(game, list_costs(drive, copies, erasures))
-    return top * best.bottom == best.top * bottom
+    return told.top * best.rate.bottom == best.rate.top * told.bottom

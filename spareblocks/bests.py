@@ -5,28 +5,26 @@ from spareblocks.tables import pick_least, rate_table
 
 
 class Best:
-    """The best rate is top / bottom, the table holds it, and the duel at this rate shows that nothing holds less."""
+    """A table that holds the best rate, this rate, and the duel at this rate, which shows that nothing holds less."""
 
-    def __init__(self, table, top, bottom, duel):
+    def __init__(self, table, rate, duel):
         self.table = table
-        self.top = top
-        self.bottom = bottom
+        self.rate = rate
         self.duel = duel
-
-
-def list_costs(drive, copies, erasures):
-    """What it costs to clean a block, for each number of living pages."""
-    return [copies * living + erasures for living in range(drive.pages + 1)]
 
 
 def find_best(game, costs):
     """The best of a game; each table that is come to has a lesser rate than the one before."""
     table = pick_least(game)
-    top, bottom, sums = rate_table(game, table, costs)
-    duel = fight(game, costs, top, bottom)
-    while holds_less(duel):
-        for number, (after, weight, link) in duel.choices.items():
+    best = challenge(game, costs, table)
+    while holds_less(best.duel):
+        for number, (after, weight, link) in best.duel.choices.items():
             table[number] = link
-        top, bottom, sums = rate_table(game, table, costs)
-        duel = fight(game, costs, top, bottom)
-    return Best(table, top, bottom, duel)
+        best = challenge(game, costs, table)
+    return best
+
+
+def challenge(game, costs, table):
+    """A table, its rate, and the duel that asks whether less can be held."""
+    rate = rate_table(game, table, costs)
+    return Best(table, rate, fight(game, costs, rate.top, rate.bottom))

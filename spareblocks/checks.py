@@ -7,6 +7,7 @@ from spareblocks.limits import MOST_PRICE, MOST_WRITES
 
 MOST_MORE = 20
 MOST_DRIFT = 3
+MOST_RATIO = 1000
 
 
 def check_drive(drive):
@@ -35,6 +36,14 @@ def check_more(more):
         raise InvalidNumber(more)
 
 
+def check_ratio(top, bottom):
+    """Raises InvalidNumber if these are no numbers of a wished rate."""
+    if not is_within(top, 0, MOST_RATIO):
+        raise InvalidNumber(top)
+    if not is_within(bottom, 1, MOST_RATIO):
+        raise InvalidNumber(bottom)
+
+
 def check_terms(copies, erasures, trims):
     """Raises an error if these are no prices and no flag."""
     check_prices(copies, erasures)
@@ -59,3 +68,10 @@ def check_drift(drift):
     """Raises InvalidDrift if it is no drift that may be wished for."""
     if drift is not None and not is_within(drift, 1, MOST_DRIFT):
         raise InvalidDrift(drift)
+
+
+def check_wish(drive, copies, erasures, trims, drift):
+    """Raises an error if these are no arguments of what tells the best rate."""
+    check_drive(drive)
+    check_terms(copies, erasures, trims)
+    check_drift(drift)

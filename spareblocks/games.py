@@ -121,8 +121,6 @@ def clean_block(drive, closed, place):
 
 def find_turn(game, wears, place):
     """The wears behind a cleaning of this place; None if they are beyond the drift."""
-    if game.drift is None:
-        return wears
     turn = (wears, place)
     if turn not in game.turns:
         game.turns[turn] = turn_wears(wears, place, game.drift)
@@ -131,12 +129,19 @@ def find_turn(game, wears, place):
 
 def turn_wears(wears, place, drift):
     """The wears of the row of blocks once this one is erased, and stands at its end; None if beyond the drift."""
+    if drift is None:
+        return wears
     raised = wears[place] + 1
     after = wears[:place] + wears[place + 1:] + (raised,)
     least = min(after)
     if raised - least > drift:
         return None
     return tuple([wear - least for wear in after])
+
+
+def list_costs(drive, copies, erasures):
+    """What it costs to clean a block, for each number of living pages."""
+    return [copies * living + erasures for living in range(drive.pages + 1)]
 
 
 def order_worn(game):

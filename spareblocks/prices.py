@@ -23,33 +23,50 @@ def weigh_links(links, top, bottom):
     return [[(after, bottom * price - top * writes) for after, price, writes in row] for row in links]
 
 
+class Rate:
+    """The greatest quotient top / bottom of price and writes over rings, and one with it.
+
+    The sums are bottom times the greatest debts. The ring is a list of pairs (number, index of its link), empty if no
+    ring costs anything.
+    """
+
+    def __init__(self, top, bottom, ring):
+        self.top = top
+        self.bottom = bottom
+        self.ring = ring
+        self.sums = []
+
+
 def steepest(links, rings):
-    """The greatest pair (price, writes), as a quotient, of these rings."""
+    """The greatest rate of these rings."""
     best = None
     for ring in rings:
         price = sum([links[number][at][1] for number, at in ring])
         writes = sum([links[number][at][2] for number, at in ring])
-        if best is None or price * best[1] > best[0] * writes:
-            best = (price, writes)
+        if best is None or price * best.bottom > best.top * writes:
+            best = Rate(price, writes, ring)
     return best
 
 
 def find_rate(web, copies, erasures):
-    """The triple (top, bottom, sums) of the links of a web."""
+    """The rate of a web."""
     return find_greatest(price_links(web, copies, erasures), web.reached[::-1])
 
 
 def find_greatest(links, order):
-    """The triple (top, bottom, sums): the rate is top / bottom, sums are bottom times the greatest debts.
+    """The rate of these links; the order is that of longest.py.
 
-    Each ring that is found to be above 0 has a greater quotient than the one before, and there are finitely many. The
-    order is that of longest.py.
+    Each ring that is found to be above 0 has a greater quotient than the one before, and there are finitely many.
     """
-    top, bottom = 0, 1
-    sums = [0] * len(links)
-    rings = settle(weigh_links(links, top, bottom), order, sums)
+    best = Rate(0, 1, [])
+    rings = raise_sums(links, order, best)
     while rings:
-        top, bottom = steepest(links, rings)
-        sums = [0] * len(links)
-        rings = settle(weigh_links(links, top, bottom), order, sums)
-    return top, bottom, sums
+        best = steepest(links, rings)
+        rings = raise_sums(links, order, best)
+    return best
+
+
+def raise_sums(links, order, best):
+    """Sets the greatest sums at a rate; returns some rings with a greater one, or none if the sums are right."""
+    best.sums = [0] * len(links)
+    return settle(weigh_links(links, best.top, best.bottom), order, best.sums)

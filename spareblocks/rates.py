@@ -13,16 +13,16 @@ def rate(drive, *, copies=1, erasures=0, trims=True):
     """The least fraction of the writes that, but for some number, no price of a load exceeds."""
     check_drive(drive)
     check_terms(copies, erasures, trims)
-    top, bottom, sums = find_rate(find_web(drive, trims), copies, erasures)
-    return lowest(top, bottom)
+    told = find_rate(find_web(drive, trims), copies, erasures)
+    return lowest(told.top, told.bottom)
 
 
 def debt(drive, *, copies=1, erasures=0, trims=True):
     """The least such number for the rate."""
     check_drive(drive)
     check_terms(copies, erasures, trims)
-    top, bottom, sums = find_rate(find_web(drive, trims), copies, erasures)
-    return lowest(sums[0], bottom)
+    told = find_rate(find_web(drive, trims), copies, erasures)
+    return lowest(told.sums[0], told.bottom)
 
 
 def longest_write(drive, *, copies=1, erasures=0, trims=True):

@@ -41,6 +41,6 @@ def link_node(game, table, costs, number):
 
 
 def rate_table(game, table, costs):
-    """The triple (top, bottom, sums) of a table, as find_rate tells it of a drive."""
+    """The rate of a table."""
     links = link_table(game, table, costs)
     return find_greatest(links, [number for number in order_worn(game) + game.due if links[number]])

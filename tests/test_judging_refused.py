@@ -1,9 +1,10 @@
-"""Wrong arguments of the functions that judge drives, of sticking.py and of stands."""
+"""Wrong arguments of the functions that judge drives, of sticking.py, of certificates.py and of stands."""
 
 import itertools
 import unittest
 
 from spareblocks.best import best_pause, best_picks, best_rate, is_best
+from spareblocks.certificates import certify_at_least, certify_at_most, certify_forces, certify_holds, certify_more
 from spareblocks.comparing import excess, never_more, worse_load
 from spareblocks.drifts import drift, drift_load
 from spareblocks.drives import Drive
@@ -35,10 +36,16 @@ PARAMETERS = {
     best_pause: (("drive",), TERMS + ("drift",)),
     best_picks: (("drive",), TERMS + ("drift",)),
     is_best: (("drive",), TERMS + ("drift",)),
+    certify_at_most: (("drive",), TERMS),
+    certify_at_least: (("drive",), TERMS),
+    certify_holds: (("drive",), TERMS + ("drift",)),
+    certify_forces: (("drive",), TERMS + ("drift",)),
+    certify_more: (("one", "other", "more"), ("copies", "erasures")),
 }
 # These have an answer also for drives of which a write sticks.
-UNSTUCK = (stands, sticks, stick_load, best_rate, best_pause, best_picks, is_best)
-BEST = (best_rate, best_pause, best_picks, is_best)
+BEST = (best_rate, best_pause, best_picks, is_best, certify_holds, certify_forces)
+UNSTUCK = (stands, sticks, stick_load) + BEST
+COMPARING = (excess, never_more, worse_load, certify_more)
 ERRORS = {"drive": NotADrive, "one": NotADrive, "other": NotADrive, "number": InvalidNumber, "more": InvalidNumber,
           "copies": InvalidPrice, "erasures": InvalidPrice, "trims": InvalidFlag, "drift": InvalidDrift}
 RIGHT = {"drive": Drive.simple(3, 2, 3), "one": Drive.simple(3, 2, 3), "other": Drive.simple(3, 3, 3), "number": 3,
@@ -131,7 +138,7 @@ class RefusedTest(unittest.TestCase):
 
     def test_other_room_for_names(self):
         one = RIGHT["one"]
-        for function in (excess, never_more, worse_load):
+        for function in COMPARING:
             for other in (Drive.simple(3, 2, 4), Drive.simple(3, 2, 2), Drive.simple(6, 5, 1), STICKING[1]):
                 self.refused_without_given(function, {"one": one, "other": other}, OtherNames)
                 self.refused_without_given(function, {"one": other, "other": one}, OtherNames)
@@ -161,7 +168,7 @@ class RefusedTest(unittest.TestCase):
 
     def test_sticks_comes_ahead_of_too_many(self):
         sticking, fine, other = [Drive.simple(4, 3, 8, word) for word in ("most", "least", "oldest")]
-        for function in (excess, never_more, worse_load):
+        for function in COMPARING:
             for one, two in ((fine, other), (other, fine)):
                 with self.assertRaises(TooMany) as caught:
                     function(one, two)
@@ -180,7 +187,7 @@ class RefusedTest(unittest.TestCase):
 
     def test_too_many_comes_last(self):
         changed = {"one": Drive.simple(4, 3, 8), "other": Drive.simple(4, 3, 8, "oldest")}
-        for function in (excess, never_more, worse_load):
+        for function in COMPARING:
             for name in self.names(function)[2:]:
                 for value in BEYOND[name]:
                     self.refused(function, {**changed, name: value}, ERRORS[name], value)

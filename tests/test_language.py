@@ -254,7 +254,10 @@ class LanguageTest(unittest.TestCase):
         listed = {"drives": ["Drive"], "rates": ["rate", "debt", "longest_write", "most_price", "costly_load"],
                   "drifts": ["drift", "drift_load"], "comparing": ["excess", "never_more", "worse_load"],
                   "playing": ["steps", "blocks_of", "erased", "price", "stand", "stands"],
-                  "sticking": ["sticks", "stick_load"], "best": ["best_rate", "best_pause", "best_picks", "is_best"]}
+                  "sticking": ["sticks", "stick_load"], "best": ["best_rate", "best_pause", "best_picks", "is_best"],
+                  "wishes": ["blocks_for", "limits_for"], "books": ["Book"], "checker": ["accepts"],
+                  "certificates": ["certify_at_most", "certify_at_least", "certify_holds", "certify_forces",
+                                   "certify_more"]}
         for stem, names in listed.items():
             tree = ast.parse((PACKAGE / (stem + ".py")).read_text(encoding="utf-8"))
             defined = {node.name for node in tree.body if isinstance(node, (ast.FunctionDef, ast.ClassDef))}

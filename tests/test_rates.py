@@ -66,8 +66,8 @@ class MadeTest(unittest.TestCase):
     """No debt but 0 was found for any drive, so that debts are tested on webs that are made for it, too."""
 
     def found(self, *links):
-        top, bottom, sums = find_rate(Made(links), 1, 0)
-        return lowest(top, bottom), [lowest(owed, bottom) for owed in sums]
+        told = find_rate(Made(links), 1, 0)
+        return lowest(told.top, told.bottom), [lowest(owed, told.bottom) for owed in told.sums]
 
     def test_a_costly_way_to_a_cheap_ring(self):
         self.assertEqual(((1, 2), [(8, 1), (7, 2), (0, 1), (1, 2)]),
