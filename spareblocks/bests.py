@@ -14,13 +14,16 @@ class Best:
 
 
 def find_best(game, costs):
-    """The best of a game; each table that is come to has a lesser rate than the one before."""
-    table = pick_least(game)
+    """The best of a game."""
+    return improve(game, costs, pick_least(game))
+
+
+def improve(game, costs, table):
+    """The best of a game, from some table on by which cleaning ends: each one that is come to has a lesser rate."""
     best = challenge(game, costs, table)
     while holds_less(best.duel):
-        for number, (after, weight, link) in best.duel.choices.items():
-            table[number] = link
-        best = challenge(game, costs, table)
+        better = {number: link for number, (after, weight, link) in best.duel.choices.items()}
+        best = challenge(game, costs, {**best.table, **better})
     return best
 
 

@@ -57,8 +57,8 @@ def accept_more(claim, certificate):
     return shows_more(one, other, copies, erasures, more, certificate)
 
 
-CHECKS = {AT_MOST: accept_at_most, AT_LEAST: accept_at_least, HOLDS: accept_best, FORCES: accept_best,
-          MORE: accept_more}
+CHECKS = {"at most": accept_at_most, "at least": accept_at_least, "holds": accept_best, "forces": accept_best,
+          "more": accept_more}
 
 
 def accepts(claim, certificate):

@@ -12,7 +12,7 @@ NEVER_MORE = "never more"
 BEST = "best"
 
 # How many elements a claim with each word has.
-LENGTHS = {RATE: 4, NEVER_MORE: 3, BEST: 2}
+LENGTHS = {"rate": 4, "never more": 3, "best": 2}
 
 
 def is_claim(value):

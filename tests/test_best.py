@@ -1,9 +1,13 @@
+import random
 import unittest
 
 from spareblocks.best import best_pause, best_picks, best_rate, is_best
+from spareblocks.bests import improve
 from spareblocks.drives import Drive
 from spareblocks.errors import TooMany
+from spareblocks.games import find_game, list_costs, tell_due
 from spareblocks.rates import longest_write, rate
+from spareblocks.tables import rate_table
 from tests.helper import WORDS, all_names, all_sizes, stands_counted
 from tests.picked import (all_tables, ends, forces_rate, greatest_pause, holds_less, holds_rate, is_due, table_links,
                           walk_picked)
@@ -22,6 +26,53 @@ def is_fraction(value):
         return False
     top, bottom = value
     return bottom > 0 and top >= 0 and all(top % part or bottom % part for part in range(2, bottom + 1))
+
+
+class ImproveTest(unittest.TestCase):
+    """No drive was found for which it is not best to pick the fewest living pages; so other tables begin here."""
+
+    def check(self, sizes, terms):
+        """From tables with greater rates the same best rate is come to, by tables that hold it."""
+        drive = Drive.simple(*sizes)
+        game = find_game(drive, terms["trims"], terms["drift"])
+        costs = list_costs(drive, terms["copies"], terms["erasures"])
+        web = walk_picked(*sizes, terms["trims"], terms["drift"])
+        expected = best_rate(drive, **terms)
+        better = 0
+        for table in self.tables(game):
+            before = rate_table(game, table, costs)
+            best = improve(game, costs, dict(table))
+            self.assertEqual(expected[0] * best.rate.bottom, best.rate.top * expected[1])
+            told = {tell_due(game.nodes[number]): link[0] for number, link in best.table.items()}
+            links = table_links(web, told)
+            self.assertTrue(ends(links) and holds_rate(links, terms["copies"], terms["erasures"], *expected))
+            better += before.top * expected[1] > expected[0] * before.bottom
+        return better
+
+    def tables(self, game):
+        """Tables by which cleaning ends: what was closed first, and blocks that are not full, if the drift lets some."""
+        chance = random.Random(len(game.due))
+        yield {number: game.links[number][0] for number in game.due}
+        for choose in (lambda some: some[-1], chance.choice, chance.choice):
+            table = {}
+            for number in game.due:
+                closed = game.nodes[number][0][0]
+                some = [link for link in game.links[number] if closed[link[0]] < game.drive.pages]
+                table[number] = choose(some) if some else game.links[number][0]
+            yield table
+
+    def test_from_other_tables(self):
+        better = 0
+        for at, sizes in enumerate([(3, 2, 2), (3, 2, 3), (3, 2, 4), (3, 3, 3), (3, 3, 5), (3, 4, 6), (4, 2, 3), (4, 2, 5),
+                                    (4, 3, 4), (5, 2, 3)]):
+            for drift in (None, 1, 2):
+                for trims in (True, False):
+                    copies, erasures = PRICES[(at + trims) % len(PRICES)]
+                    if drift is None or drift == 1 and sizes[:2] == (4, 2) or sizes[0] == 3:
+                        terms = {"copies": copies, "erasures": erasures, "trims": trims, "drift": drift}
+                        with self.subTest(sizes=sizes, terms=terms):
+                            better += self.check(sizes, terms)
+        self.assertGreater(better, 30)
 
 
 class BestTest(unittest.TestCase):
