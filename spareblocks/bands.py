@@ -8,15 +8,13 @@ being written once more it dies there, and the names that stay are left.
 """
 
 
-def find_bands(drive):
-    """For each row that ever picks: (floor, limit, word), there being no block with less than floor living pages."""
-    bands = []
+def find_taker(drive):
+    """The pair (floor, word) of the row that takes all blocks, floor being what lives in each when it comes to it."""
     floor = 0
     for limit, word in drive.rows:
-        if limit >= floor:
-            bands.append((floor, limit, word))
-            floor = limit + 1
-    return bands
+        if limit == drive.pages:
+            return floor, word
+        floor = max(floor, limit + 1)
 
 
 def find_stuck(drive):
@@ -25,7 +23,7 @@ def find_stuck(drive):
     Only full blocks are picked then. So the row that picks takes all blocks, and as these go to the end, one by one,
     `oldest` and `least` would come to one that is not full.
     """
-    floor, limit, word = find_bands(drive)[-1]
+    floor, word = find_taker(drive)
     stuck = (floor,) * (drive.blocks - 2) + (drive.pages,)
     if word in ("youngest", "most") and sum(stuck) < drive.names:
         return stuck
@@ -33,20 +31,13 @@ def find_stuck(drive):
 
 
 def is_first_always(drive):
-    """Whether it is always the block that was closed first that is picked."""
-    for floor, limit, word in find_bands(drive):
-        lightest = floor * (drive.blocks - 1) + step_aside(drive, floor, limit, word)
-        if lightest < drive.names:
-            return False
-    return True
+    """Whether it is always the block that was closed first that is picked; the first row alone tells it.
 
-
-def step_aside(drive, floor, limit, word):
-    """How many pages more than floor in each block must live so that another block than the first one is picked."""
-    if word == "youngest":
-        return 0
+    If all blocks are empty, `youngest` picks the last one. With one living page in the first block, or in another one,
+    `least` and `most` pick another one. If more pages can live than the limit tells, `oldest` leaves out a first block
+    with so many for an empty one; else no block is ever left to another row.
+    """
+    limit, word = drive.rows[0]
     if word == "oldest":
-        # The first one must be beyond the limit; if the limit takes all, no number is enough.
-        return limit + 1 - floor if limit < drive.pages else drive.blocks * drive.pages
-    # One page more makes the first one greater than the others, or another one greater than the first.
-    return 1
+        return limit == drive.pages or drive.names <= limit + 1
+    return word != "youngest" and drive.names == 1

@@ -2,13 +2,13 @@
 
 From one due pair to the next one who writes goes where he likes, at no price. How many writes this takes, the one for
 which it is picked among them, only depends on what is picked: as many as there are pages in the block that do not live.
-So only picks have weights here, bottom times the price less top times these writes. All of them are multiplied by one
-more than there are due pairs, and get 1 more: then a ring is above 0 exactly if it was at least 0, and none is 0.
+So only picks have weights here, bottom times the price less top times these writes.
 
 Who picks may give up at a due pair. The value of a node is the greatest sum till then that who writes can come to. At
 first it is given up everywhere, and the values are 0. Then, again and again, all due pairs at which another pick leads
-to less take it. No ring comes to be above 0 by this: the weight of what is picked is at most the value here less the
-value there. So values only fall; some come to be below all numbers, where it is not given up any more at all.
+to less take it. By this each ring is below 0: the weight of a pick is at most the value here less the value there, and
+less than that where it was taken just now. So values only fall; some come to be below all numbers, where it is not
+given up any more at all.
 
 In the end, if the value of the start is below all numbers, these picks hold less than the rate. If it is a number, who
 writes always goes where the value is greatest, and no pick leads to less than the value: no ring is below 0.
@@ -18,7 +18,7 @@ from spareblocks.games import order_worn
 
 
 class Duel:
-    """A game with weights: rows has triples (number behind, weight, link) for each due pair."""
+    """A game with weights: weighed has triples (number behind, weight, link) for each due pair."""
 
     def __init__(self, game, costs, top, bottom):
         self.game = game
@@ -27,7 +27,7 @@ class Duel:
         self.weighed = {number: weigh_picks(game, number, costs, top, bottom) for number in game.due}
         greatest = max([abs(weight) for row in list(self.weighed.values()) for after, weight, link in row])
         # Stands for all that is below all numbers; no sum of weights comes near it.
-        self.abyss = -4 * (len(game.due) + 1) * greatest
+        self.abyss = -2 * (len(game.due) + 1) * greatest - 1
         self.choices = {}
         self.worths = [0] * len(game.nodes)
 
@@ -38,8 +38,7 @@ def weigh_picks(game, number, costs, top, bottom):
     weighed = []
     for link in game.links[number]:
         living = closed[link[0]]
-        weight = bottom * costs[living] - top * (game.drive.pages - living)
-        weighed.append((link[1], weight * (len(game.due) + 1) + 1, link))
+        weighed.append((link[1], bottom * costs[living] - top * (game.drive.pages - living), link))
     return weighed
 
 

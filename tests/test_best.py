@@ -1,5 +1,6 @@
 import random
 import unittest
+from unittest import mock
 
 from spareblocks.best import best_pause, best_picks, best_rate, is_best
 from spareblocks.bests import improve
@@ -189,7 +190,7 @@ class BestTest(unittest.TestCase):
         return rate(Drive(*parts), **prices) == best_rate(Drive(*parts), **terms)
 
     def test_too_many_worn_stands(self):
-        # By their walks these have 982 and 1091, 1001 or more, with trims or without.
+        # These have 982, and more than 1000 with trims alone, as the walks tell.
         few, many = Drive.simple(3, 3, 6), Drive.simple(3, 4, 4)
         self.assertEqual(982, len([node for node in walk_picked(3, 3, 6, True, 3) if not is_due(node)]))
         self.assertLess(1000, len([node for node in walk_picked(3, 4, 4, True, 3) if not is_due(node)]))
@@ -202,6 +203,17 @@ class BestTest(unittest.TestCase):
                     function(drive, drift=3)
                 self.assertIs(TooMany, type(caught.exception))
                 self.assertEqual(1000, caught.exception.limit)
+
+    def test_the_limit_itself(self):
+        # No drive has exactly 1000 worn stands, so that the edge is tested at a lesser limit.
+        self.assertEqual(48, len([node for node in walk_picked(3, 2, 3, True, 1) if not is_due(node)]))
+        for limit, many in ((47, True), (48, False)):
+            with mock.patch("spareblocks.games.MOST_PICKED", limit):
+                for function in (best_rate, best_pause, best_picks, is_best):
+                    if many:
+                        self.assertRaises(TooMany, function, Drive.simple(3, 2, 3), drift=1)
+                    else:
+                        function(Drive.simple(3, 2, 3), drift=1)
 
     def test_examples_of_the_interface(self):
         least, oldest = Drive.simple(3, 2, 3), Drive.simple(3, 2, 4, "oldest")

@@ -89,6 +89,22 @@ class ClaimsRefusedTest(CheckerCase):
                 self.refuse(claim[:place] + (0, 0, True, 0, 1), certificate)
                 self.accept(claim[:place] + (0, 1, True, 0, 1), certificate)
 
+    def test_prices_below_0(self):
+        # A ring of one copy and one erasure costs nothing less than 0 at these prices, too.
+        way, ring = writes("a", "b", "c", "d"), writes("d")
+        for copies, erasures in ((-1, 9), (9, -1), (-1, 2)):
+            self.refuse(("at least", str(LEAST), copies, erasures, True, 0, 1), (way, ring))
+        self.accept(("at least", str(LEAST), 0, 9, True, 0, 1), (way, ring))
+
+    def test_drifts_beyond_their_bounds(self):
+        # If nothing at all could be picked, nothing would be asked for behind the first blocks.
+        nodes = [((), (), (0, 0, 0)), ((), (1, 1, 0), (0, 0)), (((2, 0),), (), (0, 0)), (((2, 0),), (1, 1, 0), (0,)),
+                 (((2, 0), (2, 0)), (), (0,))]
+        moves = ["new"] * 4 + [("write", 0)]
+        certificate = tuple((node, move, at - 4) for at, (node, move) in enumerate(zip(nodes, moves)))
+        for drift in (0, -1, 4):
+            self.refuse(("forces", str(LEAST), 1, 0, True, drift, 1, 1), certificate)
+
     def test_other_lengths_and_kinds(self):
         for claim, certificate in self.right():
             for many in range(len(claim)):
@@ -148,6 +164,14 @@ class AtMostTest(CheckerCase):
         for stand in (((2, 2), (1, 1)), ((0, 0, 0), ()), ((3,), ()), ((), (2, 0)), ((2, 2, 2, 2, 2), (9, 9))):
             self.refuse(claim, certificate + ((stand, 0),))
             self.refuse(claim, certificate + ((stand, 9),))
+
+    def test_stands_of_other_kinds(self):
+        claim, certificate = certify_at_most(LEAST)
+        for stand in (([0], ()), ((0,), []), ((0,), [1, 1]), (([],), ()), ((0,), (1, [])), ((Hostile(),), ()), ((), Hostile()),
+                      ((), (Hostile(), 0)), ({}, ()), ((0,), {}), [(), ()], ((0,), (1,)), ((0,), (1, 1, 1)), ((-1,), ()),
+                      ((0,), (1, -1)), ((0,), ((), ())), (("0",), ()), ((None,), ()), ((0,), None), ((),), ((), (), ())):
+            self.refuse(claim, certificate + ((stand, 0),))
+            self.refuse(claim, ((stand, 0),) + certificate[1:])
 
     def test_trims_make_stands(self):
         with_trims, without = certify_at_most(LEAST), certify_at_most(LEAST, trims=False)
@@ -306,7 +330,10 @@ class HoldsTest(CheckerCase):
             self.assertNotIn(node, dict(worths))
             self.refuse(claim, (picks, worths + ((node, 0),)))
         for node in (((), ()), ((), (), (0, 0, 0), ()), ((), (1, 1), (0, 0)), (((2,),), (), (0, 0)), ((), None, (0, 0, 0)),
-                     ((), (), None), (None, (), (0, 0, 0)), ((), (), (0, 0, "0")), ((), (), [0, 0, 0])):
+                     ((), (), None), (None, (), (0, 0, 0)), ((), (), (0, 0, "0")), ((), (), [0, 0, 0]), ((), [], (0, 0, 0)),
+                     ([], (), (0, 0, 0)), (([0, 0],), (), (0, 0)), (((0, []),), (), (0, 0)), ((), (1, [], 0), (0, 0)),
+                     ((), (), (0, [], 0)), ((Hostile(),), (), (0, 0)), ((), (), (Hostile(), 0, 0)), ((), Hostile(), (0, 0)),
+                     (((Hostile(), 0),), (), (0, 0)), (((), {}), (), (0, 0, 0)), ((), (), {}), [(), (), (0, 0, 0)]):
             self.refuse(claim, (picks, worths + ((node, 0),)))
             self.refuse(claim, (picks, ((node, 0),) + worths[1:]))
 

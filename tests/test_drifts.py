@@ -176,6 +176,9 @@ class DriftsTest(unittest.TestCase):
         drive = Drive(3, 3, 5, ((1, "oldest"), (3, "least")))
         self.assertEqual(drift(drive, trims=True), drift(drive=drive))
         self.assertEqual(drift_load(drive, 3, trims=True), drift_load(more=3, drive=drive))
+        # Here a load with trims is shorter.
+        drive = Drive(3, 3, 6, ((0, "most"), (3, "oldest")))
+        self.assertEqual((10, 11), (len(drift_load(drive, 1)), len(drift_load(drive, 1, trims=False))))
 
     def test_equal_arguments_give_equal_results_and_nothing_changes(self):
         parts = (3, 3, 5, ((1, "oldest"), (3, "least")))

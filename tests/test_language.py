@@ -72,6 +72,15 @@ def own_functions():
     return {node.name: node for path, text, tree in parsed() for node in tree.body if isinstance(node, ast.FunctionDef)}
 
 
+def reading_methods(tree):
+    """The operators that change nothing, and the properties."""
+    names = ("__getitem__", "__contains__", "__iter__", "__len__", "__bool__", "__eq__", "__str__", "__repr__")
+    for node in ast.walk(tree):
+        if isinstance(node, ast.FunctionDef):
+            if node.name in names or "property" in [getattr(row, "id", None) for row in node.decorator_list]:
+                yield node
+
+
 def own_methods_and_attributes():
     """The names of all methods, and of all attributes that are assigned."""
     methods, attributes = set(), set()
@@ -168,6 +177,58 @@ class LanguageTest(unittest.TestCase):
                 else:
                     bound.append(node.name)
             self.assertEqual(len(set(bound)), len(bound), path)
+
+    def test_values_at_module_level_are_plain(self):
+        for path, text, tree in parsed():
+            functions = set()
+            for node in tree.body:
+                if isinstance(node, ast.FunctionDef):
+                    functions.add(node.name)
+                elif isinstance(node, ast.Assign):
+                    for part in ast.walk(node.value):
+                        plain = isinstance(part, (ast.Constant, ast.Tuple, ast.Dict, ast.Load))
+                        self.assertTrue(plain or isinstance(part, ast.Name) and part.id in functions, (path, node.lineno))
+
+    def test_what_only_reads_changes_nothing(self):
+        # Operators but for __setitem__, and properties, neither assign nor delete anything but local names.
+        for path, text, tree in parsed():
+            for method in reading_methods(tree):
+                for node in ast.walk(method):
+                    self.assertFalse(isinstance(node, (ast.Attribute, ast.Subscript))
+                                     and isinstance(node.ctx, (ast.Store, ast.Del)), (path, method.name))
+                    self.assertNotIn(called_name(node), ("append", "pop", "clear", "update", "setdefault", "extend", "add"))
+
+    def test_operators_and_with_statements(self):
+        methods, attributes = own_methods_and_attributes()
+        self.assertNotIn("keys", methods | attributes)
+        for path, text, tree in parsed():
+            for node in [node for node in ast.walk(tree) if isinstance(node, ast.ClassDef)]:
+                defined = {row.name: row for row in node.body if isinstance(row, ast.FunctionDef)}
+                if "__getitem__" in defined:
+                    last = defined["__iter__"].body[-1]
+                    self.assertTrue(isinstance(last, ast.Raise) and last.exc.func.id == "TypeError", path)
+                if "__exit__" in defined:
+                    self.assertIn("__enter__", defined)
+                    for row in ast.walk(defined["__exit__"]):
+                        self.assertNotIsInstance(row, (ast.Call, ast.BinOp, ast.Subscript, ast.While, ast.For, ast.Raise), path)
+            for node in ast.walk(tree):
+                if called_name(node) == "reversed":
+                    self.assertIn(called_name(node.args[0]), ("list", "tuple", "sorted", "range"), path)
+
+    def test_handlers_name_own_errors(self):
+        own = {node.name for path, text, tree in parsed() for node in tree.body
+               if isinstance(node, ast.ClassDef) and path.stem == "errors"}
+        for path, text, tree in parsed():
+            for node in ast.walk(tree):
+                if isinstance(node, ast.ExceptHandler):
+                    named = node.type.elts if isinstance(node.type, ast.Tuple) else [node.type]
+                    self.assertLessEqual({one.id for one in named}, own, (path, node.lineno))
+
+    def test_lambdas(self):
+        for path, text, tree in parsed():
+            found = [(node.lineno, ast.unparse(node.args)) for node in ast.walk(tree) if isinstance(node, ast.Lambda)]
+            self.assertEqual(len(set(found)), len(found), path)
+            self.assertFalse(any("=" in told or "*" in told for line, told in found), path)
 
     def test_no_name_is_both_a_method_and_an_attribute(self):
         methods, attributes = own_methods_and_attributes()
