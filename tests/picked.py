@@ -3,6 +3,8 @@
 Nothing here uses the package, so that the tests compare it with something else.
 """
 
+import math
+
 from tests.helper import Played, events_at
 from tests.walks import greatest_heights
 
@@ -235,3 +237,37 @@ def forces_rate(web, copies, erasures, top, bottom, depth=400):
                 worths[node] = worth
                 lowered = True
     return worths[next(iter(web))] != beyond
+
+
+def cheapest_ends(web, safe, copies, erasures):
+    """For each due pair the least price of picks that lead to one of these worn stands."""
+    costs = {node: math.inf for node in web if is_due(node)}
+    lowered = True
+    while lowered:
+        lowered = False
+        for node in costs:
+            for link in web[node]:
+                behind = costs[link.after] if is_due(link.after) else 0 if link.after in safe else math.inf
+                if link.price(copies, erasures) + behind < costs[node]:
+                    costs[node] = link.price(copies, erasures) + behind
+                    lowered = True
+    return costs
+
+
+def is_kept(web, copies, erasures, limit):
+    """Whether each single write can be kept at this price or less, from the start on for ever."""
+    safe = {node for node in web if not is_due(node)}
+    before = None
+    while before != safe:
+        costs = cheapest_ends(web, safe, copies, erasures)
+        before = safe
+        safe = {node for node in safe
+                if all([costs[link.after] <= limit if is_due(link.after) else link.after in safe for link in web[node]])}
+    return next(iter(web)) in safe
+
+
+def least_pause(web, pages, copies, erasures):
+    """The least price at which each single write can be kept: that of some full blocks, and of one more."""
+    full = copies * pages + erasures
+    prices = {0} | {many * full + copies * living + erasures for many in range(30) for living in range(pages)}
+    return next(limit for limit in sorted(prices) if is_kept(web, copies, erasures, limit))

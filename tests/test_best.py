@@ -10,8 +10,8 @@ from spareblocks.games import find_game, list_costs, tell_due
 from spareblocks.rates import longest_write, rate
 from spareblocks.tables import rate_table
 from tests.helper import WORDS, all_names, all_sizes, stands_counted
-from tests.picked import (all_tables, ends, forces_rate, greatest_pause, holds_less, holds_rate, is_due, table_links,
-                          walk_picked)
+from tests.picked import (all_tables, ends, forces_rate, greatest_pause, holds_less, holds_rate, is_due, least_pause,
+                          table_links, walk_picked)
 from tests.samples import PRICES
 from tests.walks import Sticking, walk_all
 
@@ -129,6 +129,8 @@ class BestTest(unittest.TestCase):
                             self.assertTrue(is_fraction(found))
                             self.assertTrue(forces_rate(web, copies, erasures, *found))
                             self.check_picks(Drive.simple(*size, "oldest"), web, terms, found)
+                            self.assertEqual(least_pause(web, size[1], copies, erasures),
+                                             best_pause(Drive.simple(*size, "most"), **terms))
 
     def test_known_best_rates(self):
         # With less names than blocks some closed block is always empty; else who writes keeps a page in each of them.

@@ -106,6 +106,28 @@ class LoadsRefusedTest(unittest.TestCase):
             next(told)
         self.assertEqual(2, caught.exception.index)
 
+    def test_no_drive(self):
+        for function in FUNCTIONS:
+            for value in values_of_many_kinds() + integers_of_many_sizes() + [str(Drive.simple(3, 2, 3)), Drive]:
+                for load in ((), (WRITE,), None, (None,)):
+                    with self.assertRaises(NotADrive) as caught:
+                        function(value, load)
+                    self.assertIs(value, caught.exception.given)
+
+    def test_wrong_prices(self):
+        drive = Drive.simple(3, 2, 3)
+        for value in values_of_many_kinds() + [-1, 10, 10 ** 39, -(10 ** 39), "1", (1,)]:
+            for terms in ({"copies": value}, {"erasures": value}, {"copies": value, "erasures": -1},
+                          {"copies": 1, "erasures": value}, {"copies": 0, "erasures": value}):
+                with self.assertRaises(InvalidPrice) as caught:
+                    price(drive, (WRITE,), **terms)
+                self.assertIs(value, caught.exception.given)
+        with self.assertRaises(InvalidPrice) as caught:
+            price(drive, (WRITE,), copies=0)
+        self.assertEqual((0, int), (caught.exception.given, type(caught.exception.given)))
+        for copies, erasures in ((0, 9), (9, 0), (9, 9), (0, 1)):
+            self.assertEqual(0, price(drive, (WRITE,), copies=copies, erasures=erasures))
+
     def test_order_of_errors(self):
         drive = Drive.simple(3, 2, 3)
         for function in FUNCTIONS:
