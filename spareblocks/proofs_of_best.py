@@ -1,6 +1,6 @@
 """Whether certificates about the best rate are right: picks that hold it, and moves that force it."""
 
-from spareblocks.forms import has_length, is_due, is_from, is_worn
+from spareblocks.forms import has_length, is_due, is_worn
 from spareblocks.games import NEW, OPEN, begin_write, clean_block, tell_due, tell_worn, turn_wears
 from spareblocks.kinds import is_integer, is_within
 from spareblocks.proofs import is_owed, read_pairs
@@ -77,10 +77,12 @@ def follow_picks(terms, picks, node):
 def shows_forces(terms, certificate):
     """Whether the worths show that the moves force the rate, whatever is picked within the drift."""
     told = read_moves(certificate)
+    if told is None:
+        return False
     start = first_node(terms.drive)
     met = {start: True}
     waiting = [start]
-    while waiting and told is not None:
+    while waiting:
         node = waiting.pop()
         move, worth = told.get(tell_worn(node), (None, 0))
         begun = begin_move(terms, node[0], move)
@@ -95,7 +97,7 @@ def shows_forces(terms, certificate):
             if after not in met:
                 met[after] = True
                 waiting.append(after)
-    return told is not None and len(met) == len(told)
+    return len(met) == len(told)
 
 
 def read_moves(certificate):

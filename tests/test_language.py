@@ -32,6 +32,16 @@ TAKERS = ("list", "tuple", "dict", "sorted", "sum", "any", "all", "enumerate", "
 STATEMENTS = (ast.Global, ast.AsyncFunctionDef, ast.AsyncFor, ast.AsyncWith, ast.Await, ast.Import)
 
 
+# What the interface lists for each file.
+LISTED = {"drives": ["Drive"], "rates": ["rate", "debt", "longest_write", "most_price", "costly_load"],
+          "drifts": ["drift", "drift_load"], "comparing": ["excess", "never_more", "worse_load"],
+          "playing": ["steps", "blocks_of", "erased", "price", "stand", "stands"],
+          "sticking": ["sticks", "stick_load"], "best": ["best_rate", "best_pause", "best_picks", "is_best"],
+          "wishes": ["blocks_for", "limits_for"], "books": ["Book"], "checker": ["accepts"],
+          "certificates": ["certify_at_most", "certify_at_least", "certify_holds", "certify_forces",
+                           "certify_more"]}
+
+
 def parsed():
     for path in FILES:
         text = path.read_text(encoding="utf-8")
@@ -160,6 +170,27 @@ class LanguageTest(unittest.TestCase):
         for turn in range(len(needs)):
             done |= {name for name in needs if needs[name] <= done}
         self.assertEqual(set(needs), done)
+
+    def test_all_that_is_imported_or_defined_is_used(self):
+        texts = {path: text for path, text, tree in parsed()}
+        for path, text, tree in parsed():
+            used = {node.id for node in ast.walk(tree) if isinstance(node, ast.Name) and isinstance(node.ctx, ast.Load)}
+            for node in tree.body:
+                if isinstance(node, ast.ImportFrom):
+                    self.assertLessEqual({alias.name for alias in node.names}, used, path)
+                elif isinstance(node, ast.FunctionDef) and node.name not in used and path.stem not in LISTED:
+                    others = [other for other in texts if other != path and re.search(rf"\b{node.name}\b", texts[other])]
+                    self.assertTrue(others, (path, node.name))
+
+    def test_no_variable_has_the_name_of_an_import_or_a_definition_of_its_file(self):
+        for path, text, tree in parsed():
+            taken = {alias.name for node in tree.body if isinstance(node, ast.ImportFrom) for alias in node.names}
+            taken |= {node.name for node in tree.body if isinstance(node, (ast.ClassDef, ast.FunctionDef))}
+            for node in ast.walk(tree):
+                if isinstance(node, (ast.FunctionDef, ast.Lambda)):
+                    names = {row.arg for row in node.args.args + node.args.kwonlyargs}
+                    names |= {row.id for row in ast.walk(node) if isinstance(row, ast.Name) and isinstance(row.ctx, ast.Store)}
+                    self.assertEqual(set(), names & taken, path)
 
     def test_module_level(self):
         for path, text, tree in parsed():
@@ -312,14 +343,7 @@ class LanguageTest(unittest.TestCase):
                         self.assertNotIn(ast.unparse(node.func.value), over, (path, node.lineno))
 
     def test_the_interface_is_defined_where_it_is_listed(self):
-        listed = {"drives": ["Drive"], "rates": ["rate", "debt", "longest_write", "most_price", "costly_load"],
-                  "drifts": ["drift", "drift_load"], "comparing": ["excess", "never_more", "worse_load"],
-                  "playing": ["steps", "blocks_of", "erased", "price", "stand", "stands"],
-                  "sticking": ["sticks", "stick_load"], "best": ["best_rate", "best_pause", "best_picks", "is_best"],
-                  "wishes": ["blocks_for", "limits_for"], "books": ["Book"], "checker": ["accepts"],
-                  "certificates": ["certify_at_most", "certify_at_least", "certify_holds", "certify_forces",
-                                   "certify_more"]}
-        for stem, names in listed.items():
+        for stem, names in LISTED.items():
             tree = ast.parse((PACKAGE / (stem + ".py")).read_text(encoding="utf-8"))
             defined = {node.name for node in tree.body if isinstance(node, (ast.FunctionDef, ast.ClassDef))}
             self.assertLessEqual(set(names), defined)
