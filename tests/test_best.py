@@ -1,14 +1,18 @@
+import itertools
 import random
 import unittest
 from unittest import mock
 
 from spareblocks.best import best_pause, best_picks, best_rate, is_best
-from spareblocks.bests import improve
+from spareblocks.bests import find_best, improve
 from spareblocks.drives import Drive
+from spareblocks.duels import fight
+from spareblocks.duels import holds_less as holds_less_than
 from spareblocks.errors import TooMany
 from spareblocks.games import find_game, list_costs, tell_due
 from spareblocks.rates import longest_write, rate
-from spareblocks.tables import rate_table
+from spareblocks.ratios import lowest
+from spareblocks.tables import pick_least, rate_table
 from tests.helper import WORDS, all_names, all_sizes, stands_counted
 from tests.picked import (all_tables, ends, forces_rate, greatest_pause, holds_less, holds_rate, is_due, least_pause,
                           table_links, walk_picked)
@@ -27,6 +31,75 @@ def is_fraction(value):
         return False
     top, bottom = value
     return bottom > 0 and top >= 0 and all(top % part or bottom % part for part in range(2, bottom + 1))
+
+
+class MadeGame:
+    """A game that no drive has: blocks of 3 pages, due pairs by their closed blocks, and ways of writes between them."""
+
+    class Three:
+        pages = 3
+
+    def __init__(self, first, picks):
+        """The first due pair, and for each one the due pairs behind its picks."""
+        self.drive = self.Three()
+        self.nodes, self.links, self.worn, self.due = [], [], [], []
+        start = self.add(((), ()), self.worn)
+        numbers = {closed: self.add((closed, None), self.due) for closed in picks}
+        self.links[start].append(("new", numbers[first]))
+        for closed, behind in picks.items():
+            for place, after in enumerate(behind):
+                # The write for which it is picked is the one that leads to the due pair.
+                self.links[numbers[closed]].append((place, self.add_way(3 - closed[place], numbers[after])))
+
+    def add(self, stand, kind):
+        self.nodes.append((stand, ()))
+        self.links.append([])
+        kind.append(len(self.nodes) - 1)
+        return len(self.nodes) - 1
+
+    def add_way(self, writes, after):
+        for written in range(writes, 0, -1):
+            number = self.add(((), (written, 0)), self.worn)
+            self.links[number].append(("new", after))
+            after = number
+        return after
+
+
+class MadeTest(unittest.TestCase):
+    """Games in which it is not best to pick the fewest living pages, or in which the first pick costs most."""
+
+    def rate(self, game, costs):
+        best = find_best(game, costs)
+        return lowest(best.rate.top, best.rate.bottom), {number: link[0] for number, link in best.table.items()}
+
+    def test_what_is_cheap_now_is_costly_later(self):
+        # Picking 0 leads to where 8 must be paid for one write: 8 for 4 writes, and else 3 for 2.
+        game = MadeGame((0, 1), {(0, 1): [(2, 2), (0, 1)], (2, 2): [(0, 1), (0, 1)]})
+        self.assertEqual((2, 1), self.told(rate_table(game, pick_least(game), [0, 3, 8])))
+        self.assertEqual(((3, 2), 1), (self.rate(game, [0, 3, 8])[0], self.rate(game, [0, 3, 8])[1][1]))
+        # If 4 must be paid it is best to go there.
+        self.assertEqual(((1, 1), 0), (self.rate(game, [0, 3, 4])[0], self.rate(game, [0, 3, 4])[1][1]))
+
+    def told(self, rate_of):
+        return lowest(rate_of.top, rate_of.bottom)
+
+    def test_all_tables_of_a_made_game(self):
+        game = MadeGame((0, 0, 0), {(0, 0, 0): [(1, 1, 1), (2, 1, 1), (2, 2, 1)], (1, 1, 1): [(0, 0, 0)] * 3,
+                                    (2, 1, 1): [(0, 0, 0), (2, 2, 1), (2, 2, 1)], (2, 2, 1): [(0, 0, 0)] * 3})
+        for costs in ([0, 9, 7], [0, 1, 7], [5, 9, 1], [1, 1, 1], [9, 0, 9]):
+            found, table = self.rate(game, costs)
+            self.assertEqual(min(self.all_rates(game, costs), key=lambda told: told[0] / told[1]), found)
+
+    def all_rates(self, game, costs):
+        for places in itertools.product(*[range(3) for number in game.due]):
+            table = {number: game.links[number][place] for number, place in zip(game.due, places)}
+            yield self.told(rate_table(game, table, costs))
+
+    def test_a_first_pick_that_costs_more_than_the_rate(self):
+        # 3 is paid for 2 writes, and then nothing for 3: less than 3 / 5 cannot be held.
+        game = MadeGame((1,), {(1,): [(0,)], (0,): [(1,)]})
+        for top, bottom, less in ((3, 5, False), (2, 1, True), (61, 100, True), (59, 100, False)):
+            self.assertIs(less, holds_less_than(fight(game, [0, 3], top, bottom)))
 
 
 class ImproveTest(unittest.TestCase):
